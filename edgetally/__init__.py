@@ -1,0 +1,1 @@
+"""Edgetally: tables of counts with kept sums."""
