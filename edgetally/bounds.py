@@ -1,6 +1,6 @@
 """Bounds: for each cell of a table the least and the greatest count that may stand there."""
 
-from edgetally.errors import BadBounds, BadTable
+from edgetally.errors import BadBounds, BadCell, BadSums, BadTable
 
 MOST = 40
 MOST_ROWS = 4
@@ -26,6 +26,26 @@ def check_rows(rows):
         raise BadTable("a count is below nought")
     if sum([sum(counts) for counts in rows]) > MOST:
         raise BadTable(f"a table has at most {MOST} things")
+
+
+def check_sums(rowsums, columnsums):
+    """Refuses sums that no table can have."""
+    if not 1 <= len(rowsums) <= MOST_ROWS:
+        raise BadSums(f"there are 1 to {MOST_ROWS} row sums, not {len(rowsums)}")
+    if not 1 <= len(columnsums) <= MOST_COLUMNS:
+        raise BadSums(f"there are 1 to {MOST_COLUMNS} column sums, not {len(columnsums)}")
+    if any([many < 0 for many in rowsums]) or any([many < 0 for many in columnsums]):
+        raise BadSums("a sum is below nought")
+    if sum(rowsums) != sum(columnsums):
+        raise BadSums(f"the rows have {sum(rowsums)} things, the columns {sum(columnsums)}")
+    if sum(rowsums) > MOST:
+        raise BadSums(f"a table has at most {MOST} things")
+
+
+def check_there(place, many):
+    """Refuses a row or a column that is not among so many."""
+    if not 0 <= place < many:
+        raise BadCell(f"there is no number {place} among {many}")
 
 
 def check_pair(pair):
@@ -57,9 +77,14 @@ def keeps(rows, bounds):
     ])
 
 
+def rows_turned(rows):
+    """Tells what stands in the rows, counts or pairs, with rows for columns."""
+    return [[cells[column] for cells in rows] for column in range(len(rows[0]))]
+
+
 def bounds_turned(bounds):
     """Tells the bounds with rows for columns."""
-    return [[pairs[column] for pairs in bounds] for column in range(len(bounds[0]))]
+    return rows_turned(bounds)
 
 
 def pair_joined(one, other):
@@ -77,7 +102,7 @@ def bounds_joined(bounds, one, other, *, rows=True):
     """Tells the bounds of a table whose two rows (columns) became one, where the first stood."""
     if rows:
         return rows_joined(bounds, one, other)
-    return bounds_turned(rows_joined(bounds_turned(bounds), one, other))
+    return rows_turned(rows_joined(rows_turned(bounds), one, other))
 
 
 def row_parted(bounds, one):
@@ -92,4 +117,4 @@ def bounds_parted(bounds, one, *, rows=True):
     """Tells the bounds of a table whose row (column) became two."""
     if rows:
         return row_parted(bounds, one)
-    return bounds_turned(row_parted(bounds_turned(bounds), one))
+    return rows_turned(row_parted(rows_turned(bounds), one))
