@@ -2,6 +2,7 @@
 
 import itertools
 import math
+import random
 
 FREE = (0, 40)
 
@@ -83,9 +84,89 @@ def drawn_sums(chance, rows, columns, many):
     return rowsums, columnsums
 
 
-def drawn_bounds(chance, rows, columns, many):
-    """Bounds of which some are free, some bar, some ask for things."""
+def drawn_bounds(chance, rows, columns, many, freely=2):
+    """Bounds of which some are free (the more, the more freely), some bar, some ask for things."""
     def pair():
         low = chance.choice([0, 0, 0, 0, 0, 1, 1, 2])
-        return chance.choice([FREE, FREE, (low, low + chance.randrange(many + 1)), (0, chance.randrange(3)), (0, 0)])
+        tight = [(low, low + chance.randrange(many + 1)), (0, chance.randrange(3)), (0, 0)]
+        return chance.choice([FREE] * freely + tight)
     return [[pair() for column in range(columns)] for row in range(rows)]
+
+
+def drawn_nets(seed, many):
+    """Sums of few things, two in three with bounds; some of them are such that no table fits."""
+    chance = random.Random(seed)
+    for drawn in range(many):
+        rows, columns = chance.choice([1, 2, 2, 3, 3]), chance.choice([1, 2, 2, 3, 3, 4])
+        rowsums, columnsums = drawn_sums(chance, rows, columns, chance.choice([0, 1, 2, 3, 4, 5, 5, 6, 6, 7]))
+        bounds = drawn_bounds(chance, rows, columns, 5, chance.choice([2, 8, 16]))
+        yield rowsums, columnsums, bounds if drawn % 3 else None
+
+
+def listed_nets(seed, many):
+    """Such sums and bounds as some table fits, with all the tables that do, in their order."""
+    for rowsums, columnsums, bounds in drawn_nets(seed, many):
+        tables = all_tables(rowsums, columnsums, bounds)
+        if tables:
+            yield rowsums, columnsums, bounds, tables
+
+
+def even_of(rowsums, columnsums):
+    return math.lcm(*[across * down for across in rowsums for down in columnsums if across and down])
+
+
+def value_of(kind, rowsums, columnsums, columns, place=(0, 0), first=0):
+    """What the columns from the first one told bring to a measure, cell by cell as point 19 has it."""
+    if kind == "rare":
+        return math.prod(ways_of(column) for column in columns)
+    if kind == "power":
+        return math.prod(count ** count for column in columns for count in column)
+    things, even, told = sum(rowsums), even_of(rowsums, columnsums), 0
+    for down, column in enumerate(columns, first):
+        for across, count in enumerate(column):
+            product = rowsums[across] * columnsums[down]
+            if kind == "square":
+                told += count * count * even // product if product else 0
+            elif kind == "off":
+                told += abs(count * things - product)
+            elif (across, down) == place:
+                told += count
+    return told
+
+
+def table_value(kind, rows, place=(0, 0)):
+    return value_of(kind, *sums_of(rows), columns_of(rows), place)
+
+
+def stranger(kind, value, seen):
+    """Whether a value is as strange as the seen one, or stranger."""
+    return value <= seen if kind in ("rare", "least") else value >= seen
+
+
+def left_by(rests, counts):
+    return tuple(rest - count for rest, count in zip(rests, counts))
+
+
+def endings(rests, columnsums, bounds, level):
+    """All ways to fill the columns from a level on, each a list of columns, that make a table."""
+    if level == len(columnsums):
+        return [[]] if not any(rests) else []
+    return [
+        [counts] + rest
+        for counts in all_columns(len(rests), columnsums[level])
+        if all(
+            low <= count <= min(high, rests[row])
+            for row, (count, (low, high)) in enumerate(zip(counts, [pairs[level] for pairs in bounds]))
+        )
+        for rest in endings(left_by(rests, counts), columnsums, bounds, level + 1)
+    ]
+
+
+def nodes_with_tables(rowsums, columnsums, bounds):
+    """Each node that has tables, (level, rests), with its endings, by rising level and rests."""
+    told, here = {}, [tuple(rowsums)]
+    for level in range(len(columnsums) + 1):
+        found = {rests: endings(rests, columnsums, bounds, level) for rests in sorted(here)}
+        told.update({(level, rests): ended for rests, ended in found.items() if ended})
+        here = {left_by(rests, ended[0]) for rests, all_ended in found.items() for ended in all_ended if ended}
+    return told

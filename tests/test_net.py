@@ -16,7 +16,7 @@ from listing import (
     all_tables,
     columns_of,
     dealings_of,
-    drawn_bounds,
+    drawn_nets,
     drawn_sums,
     ways_of,
 )
@@ -62,14 +62,6 @@ def paper_told(rowsums, columnsums, bounds):
             found = ends_of(level, rests)
             told.append((level, rests, len(found), sum(found)))
     return told
-
-
-def drawn_nets(seed, many, bound=True):
-    chance = random.Random(seed)
-    for drawn in range(many):
-        rows, columns = chance.randint(1, 3), chance.randint(1, 3)
-        rowsums, columnsums = drawn_sums(chance, rows, columns, chance.randint(0, 6))
-        yield rowsums, columnsums, drawn_bounds(chance, rows, columns, 5) if bound and drawn % 3 else None
 
 
 class Counted(unittest.TestCase):
