@@ -1,5 +1,6 @@
 """What the tests hold the program against: tables listed one by one, without the program's help."""
 
+import fractions
 import itertools
 import math
 import random
@@ -141,6 +142,20 @@ def table_value(kind, rows, place=(0, 0)):
 def stranger(kind, value, seen):
     """Whether a value is as strange as the seen one, or stranger."""
     return value <= seen if kind in ("rare", "least") else value >= seen
+
+
+def spread_of(kind, tables, place=(0, 0)):
+    """(value, dealings) of all values that the tables have, by rising value."""
+    told = {}
+    for rows in tables:
+        value = table_value(kind, rows, place)
+        told[value] = told.get(value, 0) + dealings_of(rows)
+    return sorted(told.items())
+
+
+def fraction(top, under):
+    told = fractions.Fraction(top, under)
+    return (told.numerator, told.denominator)
 
 
 def left_by(rests, counts):
