@@ -48,6 +48,12 @@ def check_there(place, many):
         raise BadCell(f"there is no number {place} among {many}")
 
 
+def check_cell(row, column, rows, columns):
+    """Refuses a cell that is not among so many rows and columns."""
+    check_there(row, rows)
+    check_there(column, columns)
+
+
 def check_pair(pair):
     low, high = pair
     if not 0 <= low <= high <= MOST:

@@ -10,6 +10,14 @@ def factorial(number):
     return product
 
 
+def power(base, many):
+    """Tells the product of the base, taken so many times."""
+    product = 1
+    for factor in range(many):
+        product *= base
+    return product
+
+
 def ways(parts):
     """Tells in how many ways marked things can be laid into heaps of these sizes."""
     for part in parts:

@@ -1,14 +1,13 @@
 """Means: what the count of a cell, or the product of two, is on the whole over all dealings."""
 
-from edgetally.bounds import check_there
+from edgetally.bounds import check_cell
 from edgetally.counts import lowest, ways
 from edgetally.net import rests_behind
 
 
-def check_cell(net, cell):
+def check_cell_of(net, cell):
     row, column = cell
-    check_there(row, len(net.rowsums()))
-    check_there(column, len(net.columnsums()))
+    check_cell(row, column, len(net.rowsums()), len(net.columnsums()))
 
 
 def count_in(cell, level, counts):
@@ -55,14 +54,14 @@ def sums_over_tables(net, one, other):
 def mean(net, row, column):
     """Tells the mean of a cell's count over all dealings."""
     cell = (row, column)
-    check_cell(net, cell)
+    check_cell_of(net, cell)
     dealings, ones, others, products = sums_over_tables(net, cell, cell)
     return lowest(ones, dealings)
 
 
 def pair_mean(net, one, other):
     """Tells the mean of the product of two cells' counts over all dealings."""
-    check_cell(net, one)
-    check_cell(net, other)
+    check_cell_of(net, one)
+    check_cell_of(net, other)
     dealings, ones, others, products = sums_over_tables(net, one, other)
     return lowest(products, dealings)

@@ -1,7 +1,7 @@
 """Measures: a whole number for each table with told sums, and which of two is stranger."""
 
-from edgetally.bounds import check_sums, check_there, rows_turned
-from edgetally.counts import common_factor, ways
+from edgetally.bounds import check_cell, check_sums, rows_turned
+from edgetally.counts import common_factor, power, ways
 from edgetally.errors import BadRule
 
 KINDS = ("rare", "square", "power", "off", "most", "least")
@@ -18,17 +18,10 @@ def least_common(numbers):
     return told
 
 
-def self_power(count):
-    told = 1
-    for factor in range(count):
-        told *= count
-    return told
-
-
 def power_part(counts):
     told = 1
     for count in counts:
-        told *= self_power(count)
+        told *= power(count, count)
     return told
 
 
@@ -52,8 +45,7 @@ class Measure:
         if kind not in KINDS:
             raise BadRule(f"there is no measure {kind}")
         if kind in BY_PLACE:
-            check_there(place[0], len(rowsums))
-            check_there(place[1], len(columnsums))
+            check_cell(place[0], place[1], len(rowsums), len(columnsums))
         self.kind = kind
         self.row_list = list(rowsums)
         self.column_list = list(columnsums)

@@ -1,6 +1,6 @@
 """Tables: rows and columns of counts, and the deeds that make one table of another."""
 
-from edgetally.bounds import check_rows, check_there, rows_turned
+from edgetally.bounds import check_cell, check_rows, check_there, rows_turned
 from edgetally.errors import BadCell, BadTable
 
 
@@ -78,8 +78,7 @@ class Table:
 
     def more(self, row, column, *, many=1):
         """Tells the table with so many things more in one cell."""
-        check_there(row, len(self.counts))
-        check_there(column, len(self.counts[0]))
+        check_cell(row, column, len(self.counts), len(self.counts[0]))
         told = self.cells()
         told[row][column] += many
         return Table(told)
